@@ -1,0 +1,92 @@
+// Package hearsay: words that are heard by all of a group, none ahead of what its speaker had heard: see DOC.md.
+package hearsay
+
+import (
+	"hearsay/api"
+	"hearsay/group"
+	"hearsay/wire"
+)
+
+// Check tells whether a group may be (P3).
+func Check(c api.Config) api.Errno { return number(group.Check(c)) }
+
+// Sum tells the check sum of a text (P4).
+func Sum(s string) int { return wire.Sum(s) }
+
+// Encode tells a frame as bytes (P5).
+func Encode(c api.Config, f api.Frame) (string, api.Errno) {
+	s, err := wire.Encode(c, f)
+	return s, number(err)
+}
+
+// Decode tells the frame that some bytes are, or where they are wrong (P6).
+func Decode(c api.Config, s string) (api.Frame, int, api.Errno) {
+	f, err := wire.Decode(c, s)
+	return f, place(err), number(err)
+}
+
+// Node is a node of a group.
+type Node struct{}
+
+// NewNode makes a node that has heard nothing (P7).
+func NewNode(c api.Config, p int) (*Node, api.Errno) { return nil, api.OK }
+
+// Say says a word (P8).
+func (n *Node) Say(body string) (int, []api.Packet, api.Errno) { return 0, nil, api.OK }
+
+// Hear takes in a packet's text (P9, P10).
+func (n *Node) Hear(s string) ([]api.Packet, api.Errno) { return nil, api.OK }
+
+// Tick tells what the node sends from time to time (P11).
+func (n *Node) Tick() []api.Packet { return nil }
+
+// Heard tells all words that the node has heard, in their order (P12).
+func (n *Node) Heard() []api.Word { return nil }
+
+// Clock tells how many words of each node it has heard (P12).
+func (n *Node) Clock() []int { return nil }
+
+// View tells what the node knows of the clock of another one (P12).
+func (n *Node) View(q int) ([]int, api.Errno) { return nil, api.OK }
+
+// Store tells the words that the node keeps (P12).
+func (n *Node) Store() []api.Word { return nil }
+
+// Net is a group's nodes and the packets between them.
+type Net struct{}
+
+// NewNet makes a group (P13).
+func NewNet(c api.Config) (*Net, api.Errno) { return nil, api.OK }
+
+// Say lets a node say a word (P14).
+func (x *Net) Say(p int, body string) (int, api.Errno) { return 0, api.OK }
+
+// Tick lets a node send what it sends from time to time (P14).
+func (x *Net) Tick(p int) api.Errno { return api.OK }
+
+// Deliver lets a packet come to its node (P15).
+func (x *Net) Deliver(k int) api.Errno { return api.OK }
+
+// Drop loses a packet (P15).
+func (x *Net) Drop(k int) api.Errno { return api.OK }
+
+// Copy doubles a packet (P15).
+func (x *Net) Copy(k int) api.Errno { return api.OK }
+
+// Send lays any text on the way to a node (P15).
+func (x *Net) Send(to int, s string) api.Errno { return api.OK }
+
+// Left tells how many packets are on their way (P15).
+func (x *Net) Left() int { return 0 }
+
+// Peek tells a packet (P15).
+func (x *Net) Peek(k int) (api.Packet, api.Errno) { return api.Packet{}, api.OK }
+
+// Heard tells all words that a node has heard, in their order (P16).
+func (x *Net) Heard(p int) ([]api.Word, api.Errno) { return nil, api.OK }
+
+// Store tells the words that a node keeps (P16).
+func (x *Net) Store(p int) ([]api.Word, api.Errno) { return nil, api.OK }
+
+// Refused tells how many packets a node has refused (P16).
+func (x *Net) Refused(p int) (int, api.Errno) { return 0, api.OK }
