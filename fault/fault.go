@@ -9,7 +9,13 @@ import (
 // The kinds of refusals, one for each number that a face may answer.
 var (
 	Arg   = errors.New("an argument that may not be")
+	Long  = errors.New("a text above its bound")
+	Spent = errors.New("no number is left")
+	Busy  = errors.New("too many words are under way")
 	Frame = errors.New("no frame")
+	Self  = errors.New("a frame that the node itself might have sent")
+	Old   = errors.New("a word that the node has, or had")
+	Far   = errors.New("a word too far ahead")
 )
 
 // Why is a refusal that tells what was wrong; it wraps the kind of refusal that this is.

@@ -12,8 +12,20 @@ func number(err error) api.Errno {
 	switch {
 	case errors.Is(err, fault.Arg):
 		return api.ErrArg
+	case errors.Is(err, fault.Long):
+		return api.ErrLong
+	case errors.Is(err, fault.Spent):
+		return api.ErrSpent
+	case errors.Is(err, fault.Busy):
+		return api.ErrBusy
 	case errors.Is(err, fault.Frame):
 		return api.ErrFrame
+	case errors.Is(err, fault.Self):
+		return api.ErrSelf
+	case errors.Is(err, fault.Old):
+		return api.ErrOld
+	case errors.Is(err, fault.Far):
+		return api.ErrFar
 	}
 	return api.OK
 }

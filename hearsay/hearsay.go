@@ -4,6 +4,7 @@ package hearsay
 import (
 	"hearsay/api"
 	"hearsay/group"
+	"hearsay/node"
 	"hearsay/wire"
 )
 
@@ -26,31 +27,46 @@ func Decode(c api.Config, s string) (api.Frame, int, api.Errno) {
 }
 
 // Node is a node of a group.
-type Node struct{}
+type Node struct{ inner *node.Node }
 
 // NewNode makes a node that has heard nothing (P7).
-func NewNode(c api.Config, p int) (*Node, api.Errno) { return nil, api.OK }
+func NewNode(c api.Config, p int) (*Node, api.Errno) {
+	inner, err := node.New(c, p)
+	if err != nil {
+		return nil, number(err)
+	}
+	return &Node{inner}, api.OK
+}
 
 // Say says a word (P8).
-func (n *Node) Say(body string) (int, []api.Packet, api.Errno) { return 0, nil, api.OK }
+func (n *Node) Say(body string) (int, []api.Packet, api.Errno) {
+	seq, packets, err := n.inner.Say(body)
+	return seq, packets, number(err)
+}
 
 // Hear takes in a packet's text (P9, P10).
-func (n *Node) Hear(s string) ([]api.Packet, api.Errno) { return nil, api.OK }
+func (n *Node) Hear(s string) ([]api.Packet, api.Errno) {
+	packets, err := n.inner.Hear(s)
+	return packets, number(err)
+}
 
 // Tick tells what the node sends from time to time (P11).
-func (n *Node) Tick() []api.Packet { return nil }
+func (n *Node) Tick() []api.Packet { return n.inner.Tick() }
 
 // Heard tells all words that the node has heard, in their order (P12).
-func (n *Node) Heard() []api.Word { return nil }
+func (n *Node) Heard() []api.Word { return n.inner.Heard() }
 
 // Clock tells how many words of each node it has heard (P12).
-func (n *Node) Clock() []int { return nil }
+func (n *Node) Clock() []int { return n.inner.Clock() }
 
 // View tells what the node knows of the clock of another one (P12).
-func (n *Node) View(q int) ([]int, api.Errno) { return nil, api.OK }
+func (n *Node) View(q int) ([]int, api.Errno) {
+	view, err := n.inner.View(q)
+	return view, number(err)
+}
 
 // Store tells the words that the node keeps (P12).
-func (n *Node) Store() []api.Word { return nil }
+func (n *Node) Store() []api.Word { return n.inner.Store() }
 
 // Net is a group's nodes and the packets between them.
 type Net struct{}
