@@ -4,6 +4,7 @@ package hearsay
 import (
 	"hearsay/api"
 	"hearsay/group"
+	"hearsay/mesh"
 	"hearsay/node"
 	"hearsay/wire"
 )
@@ -69,40 +70,61 @@ func (n *Node) View(q int) ([]int, api.Errno) {
 func (n *Node) Store() []api.Word { return n.inner.Store() }
 
 // Net is a group's nodes and the packets between them.
-type Net struct{}
+type Net struct{ inner *mesh.Mesh }
 
 // NewNet makes a group (P13).
-func NewNet(c api.Config) (*Net, api.Errno) { return nil, api.OK }
+func NewNet(c api.Config) (*Net, api.Errno) {
+	inner, err := mesh.New(c)
+	if err != nil {
+		return nil, number(err)
+	}
+	return &Net{inner}, api.OK
+}
 
 // Say lets a node say a word (P14).
-func (x *Net) Say(p int, body string) (int, api.Errno) { return 0, api.OK }
+func (x *Net) Say(p int, body string) (int, api.Errno) {
+	seq, err := x.inner.Say(p, body)
+	return seq, number(err)
+}
 
 // Tick lets a node send what it sends from time to time (P14).
-func (x *Net) Tick(p int) api.Errno { return api.OK }
+func (x *Net) Tick(p int) api.Errno { return number(x.inner.Tick(p)) }
 
 // Deliver lets a packet come to its node (P15).
-func (x *Net) Deliver(k int) api.Errno { return api.OK }
+func (x *Net) Deliver(k int) api.Errno { return number(x.inner.Deliver(k)) }
 
 // Drop loses a packet (P15).
-func (x *Net) Drop(k int) api.Errno { return api.OK }
+func (x *Net) Drop(k int) api.Errno { return number(x.inner.Drop(k)) }
 
 // Copy doubles a packet (P15).
-func (x *Net) Copy(k int) api.Errno { return api.OK }
+func (x *Net) Copy(k int) api.Errno { return number(x.inner.Copy(k)) }
 
 // Send lays any text on the way to a node (P15).
-func (x *Net) Send(to int, s string) api.Errno { return api.OK }
+func (x *Net) Send(to int, s string) api.Errno { return number(x.inner.Send(to, s)) }
 
 // Left tells how many packets are on their way (P15).
-func (x *Net) Left() int { return 0 }
+func (x *Net) Left() int { return x.inner.Left() }
 
 // Peek tells a packet (P15).
-func (x *Net) Peek(k int) (api.Packet, api.Errno) { return api.Packet{}, api.OK }
+func (x *Net) Peek(k int) (api.Packet, api.Errno) {
+	packet, err := x.inner.Peek(k)
+	return packet, number(err)
+}
 
 // Heard tells all words that a node has heard, in their order (P16).
-func (x *Net) Heard(p int) ([]api.Word, api.Errno) { return nil, api.OK }
+func (x *Net) Heard(p int) ([]api.Word, api.Errno) {
+	words, err := x.inner.Heard(p)
+	return words, number(err)
+}
 
 // Store tells the words that a node keeps (P16).
-func (x *Net) Store(p int) ([]api.Word, api.Errno) { return nil, api.OK }
+func (x *Net) Store(p int) ([]api.Word, api.Errno) {
+	words, err := x.inner.Store(p)
+	return words, number(err)
+}
 
 // Refused tells how many packets a node has refused (P16).
-func (x *Net) Refused(p int) (int, api.Errno) { return 0, api.OK }
+func (x *Net) Refused(p int) (int, api.Errno) {
+	count, err := x.inner.Refused(p)
+	return count, number(err)
+}

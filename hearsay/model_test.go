@@ -158,20 +158,20 @@ func (m *model) all() everything {
 	return a
 }
 
-// near gives a frame for a model's node about which there is something to decide: its numbers are close to what the node knows.
-func (d *dice) near(m *model) api.Frame {
-	f := api.Frame{Kind: api.State, From: d.roll(m.c.Nodes), Vector: m.clock()}
-	for i, v := range f.Vector {
-		f.Vector[i] = min(max(v+d.roll(4)-2, 0), m.c.Last)
+// near gives a frame for a node about which there is something to decide: its numbers are close to what the node has heard.
+func (d *dice) near(c api.Config, clock []int) api.Frame {
+	f := api.Frame{Kind: api.State, From: d.roll(c.Nodes), Vector: make([]int, c.Nodes)}
+	for i, v := range clock {
+		f.Vector[i] = min(max(v+d.roll(4)-2, 0), c.Last)
 	}
 	if d.roll(4) == 0 {
 		return f
 	}
-	f.Kind, f.Origin = api.Data, d.roll(m.c.Nodes)
-	f.Seq = min(max(m.clock()[f.Origin]+d.roll(m.c.Window+3)-1, 1), m.c.Last)
-	f.Low = f.Seq - 1 - d.roll(min(f.Seq, m.c.Window))
+	f.Kind, f.Origin = api.Data, d.roll(c.Nodes)
+	f.Seq = min(max(clock[f.Origin]+d.roll(c.Window+3)-1, 1), c.Last)
+	f.Low = f.Seq - 1 - d.roll(min(f.Seq, c.Window))
 	f.Vector[f.Origin] = f.Seq - 1
-	f.Body = d.text(d.roll(m.c.Body + 1))
+	f.Body = d.text(d.roll(c.Body + 1))
 	return f
 }
 
@@ -251,7 +251,7 @@ func (w *walk) step(forged bool) {
 	case k < 6:
 		w.way = append(w.way, w.nodes[p].Tick()...)
 	case k < 9 && forged:
-		s := encoded(w.c, w.d.near(w.models[p]))
+		s := encoded(w.c, w.d.near(w.c, w.models[p].clock()))
 		if w.d.roll(8) == 0 {
 			s = spoil(w.d, s)
 		}
